@@ -1,0 +1,1 @@
+"""Matrices of exact fractions whose rows and columns carry measures."""

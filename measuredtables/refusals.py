@@ -1,0 +1,16 @@
+"""The numbers with which calls are refused."""
+
+NOT_A_WORD = -1
+IN_THE_BOOK = -2
+NO_SUCH_POWER = -2
+FULL = -3
+NOT_SUCH_A_TEXT = -4
+NOT_IN_THE_BOOK = -5
+NOT_ABOVE_ZERO = -6
+TOO_LONG = -6
+TOO_FAR = -7
+NOT_HELD = -8
+OTHER_SHAPE = -9
+OTHER_MEASURES = -10
+MORE_THAN_ONE_WAY = -12
+NOT_SQUARE = -13

@@ -1,0 +1,60 @@
+"""Edges that calls can't reach by themselves, at the functions that keep them."""
+
+import unittest
+from math import gcd
+
+from measuredtables.matrices import Matrix, settled
+from measuredtables.ratios import common_divisor, lowest
+
+
+def measure(power):
+    return [0, power, 0, 0, 0, 0, 0, 0]
+
+
+class Settled(unittest.TestCase):
+    def test_columns_at_999(self):
+        for power, fits in [(999, True), (-999, True), (1000, False), (-1000, False)]:
+            matrix = Matrix([measure(0)], [measure(0), measure(power)], [[(1, 1), (1, 1)]])
+            self.assertEqual(settled(matrix) is not None, fits, power)
+
+    def test_rows_at_999(self):
+        for power, fits in [(999, True), (-999, True), (1000, False), (-1000, False)]:
+            matrix = Matrix([measure(0), measure(power)], [measure(0)], [[(1, 1)], [(1, 1)]])
+            self.assertEqual(settled(matrix) is not None, fits, power)
+
+
+class Lowest(unittest.TestCase):
+    def test_slowest_fractions(self):
+        for digits in range(1, 201):
+            before, number = 1, 1
+            while before + number < 10 ** digits:
+                before, number = number, before + number
+            for factor in [1, 10 ** 500]:
+                self.assertEqual(lowest(number * factor, before * factor, digits), (number, before))
+                self.assertEqual(lowest(-before * factor, number * factor, digits), (-before, number))
+                self.assertIsNone(lowest(before + number, number, digits))
+                self.assertIsNone(lowest(number, before + number, digits))
+
+    def test_zero(self):
+        self.assertEqual(lowest(0, 7, 40), (0, 1))
+        self.assertEqual(lowest(0, 10 ** 999, 1), (0, 1))
+
+    def test_bounds(self):
+        self.assertEqual(lowest(99, 1, 2), (99, 1))
+        self.assertIsNone(lowest(100, 1, 2))
+        self.assertIsNone(lowest(-100, 1, 2))
+        self.assertIsNone(lowest(1, 100, 2))
+        self.assertEqual(lowest(100, 200, 2), (1, 2))
+
+    def test_divisors(self):
+        for x in range(1, 60):
+            for y in range(1, 60):
+                self.assertEqual(common_divisor(x, y, 2), gcd(x, y))
+
+    def test_large_by_small(self):
+        self.assertEqual(common_divisor(3 ** 2000, 3 ** 400, 200), 3 ** 400)
+        self.assertEqual(common_divisor(7 ** 2000 * 6, 3 ** 400, 200), 3)
+
+
+if __name__ == "__main__":
+    unittest.main()
