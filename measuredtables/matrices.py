@@ -1,9 +1,10 @@
 """Matrices with measures of rows and columns, and what is made of them."""
 
-from measuredtables.measures import divided, is_within, multiplied, no_measure, raised_measure, shown_measure
-from measuredtables.ratios import added_ratio, common_multiple, lowest, multiplied_ratio, raised, shown_ratio
+from measuredtables.measures import divided, is_within, multiplied, no_measure, product_of_measures, raised_measure
+from measuredtables.measures import shown_measure
+from measuredtables.ratios import added_ratio, lowest, multiplied_ratio, raised, shown_ratio
+from measuredtables.wholes import ENTRY_DIGITS, common_bottom, entries_over, row_over, tops_over
 
-ENTRY_DIGITS = 200
 FARTHEST_POWER = 999
 
 
@@ -55,6 +56,11 @@ def has_measures_of(a, b):
     return a.rows == b.rows and a.columns == b.columns
 
 
+# What is held has its entries in lowest terms, so the same fractions are the same pairs.
+def is_same(a, b):
+    return has_measures_of(a, b) and a.entries == b.entries
+
+
 def added_row(x, y):
     return [added_ratio(one, other) for one, other in zip(x, y)]
 
@@ -86,36 +92,16 @@ def turned(a):
     return made_of(rows, columns, columns_of(a.entries))
 
 
-# The measure by which b's rows differ from a's columns; None if it isn't one for all.
-def link_of(a, b):
-    link = divided(b.rows[0], a.columns[0])
-    if not all([row == multiplied(link, column) for row, column in zip(b.rows, a.columns)]):
+# The one measure that makes each of the second measures of the first; None if there's none.
+def link_between(measures, others):
+    link = divided(others[0], measures[0])
+    if not all([other == multiplied(link, measure) for measure, other in zip(measures, others)]):
         return None
     return link
 
 
-def common_bottom(a):
-    bottom = 1
-    for row in a.entries:
-        for entry in row:
-            bottom = common_multiple(bottom, entry[1], ENTRY_DIGITS)
-    return bottom
-
-
-def row_of_tops(row, bottom):
-    return [entry[0] * (bottom // entry[1]) for entry in row]
-
-
-def tops_over(a, bottom):
-    return [row_of_tops(row, bottom) for row in a.entries]
-
-
-def row_over(tops, bottom):
-    return [(top, bottom) for top in tops]
-
-
-def entries_over(tops, bottom):
-    return [row_over(row, bottom) for row in tops]
+def measure_of_determinant(a):
+    return divided(product_of_measures(a.rows), product_of_measures(a.columns))
 
 
 def inner_product(x, y):
@@ -128,10 +114,10 @@ def product_row(row, columns):
 
 # Whole numbers over one denominator are multiplied, as fractions would have to be reduced at each step.
 def product_of(a, b, link):
-    a_bottom = common_bottom(a)
-    b_bottom = common_bottom(b)
-    columns = columns_of(tops_over(b, b_bottom))
-    tops = [product_row(row, columns) for row in tops_over(a, a_bottom)]
+    a_bottom = common_bottom(a.entries)
+    b_bottom = common_bottom(b.entries)
+    columns = columns_of(tops_over(b.entries, b_bottom))
+    tops = [product_row(row, columns) for row in tops_over(a.entries, a_bottom)]
     rows = [multiplied(row, link) for row in a.rows]
     return made_of(rows, b.columns, entries_over(tops, a_bottom * b_bottom))
 
@@ -145,9 +131,9 @@ def power_row(row, columns, times):
 
 # Row by row, each in lowest terms at once: a power may be huge, and the first entry that is too far ends it with None.
 def power_of(a, times, link):
-    bottom = common_bottom(a)
+    bottom = common_bottom(a.entries)
     under = raised(bottom, times)
-    tops = tops_over(a, bottom)
+    tops = tops_over(a.entries, bottom)
     columns = columns_of(tops)
     entries = []
     for row in tops:
@@ -159,11 +145,17 @@ def power_of(a, times, link):
     return made_of([multiplied(row, measure) for row in a.rows], a.columns, entries)
 
 
+def shown_number(number, measure, bases):
+    if measure == no_measure():
+        return shown_ratio(number)
+    return shown_ratio(number) + "[" + shown_measure(measure, bases) + "]"
+
+
 # A bare 0 would be read as a 0 of any measure, so its measure is told even if it's 1.
 def shown_entry(entry, measure, bases):
-    if measure == no_measure() and entry[0] != 0:
-        return shown_ratio(entry)
-    return shown_ratio(entry) + "[" + shown_measure(measure, bases) + "]"
+    if measure == no_measure() and entry[0] == 0:
+        return "0[1]"
+    return shown_number(entry, measure, bases)
 
 
 def shown_row(a, place, bases):
@@ -181,3 +173,9 @@ def shown_measures(measures, bases):
 
 def shown_form(a, bases):
     return shown_measures(a.rows, bases) + " by " + shown_measures(a.columns, bases)
+
+
+# The measures are the powers of one measure, from the power 0 on.
+def shown_numbers(numbers, measure, bases):
+    shown = [shown_number(number, raised_measure(measure, k), bases) for k, number in enumerate(numbers)]
+    return ", ".join(shown)

@@ -22,6 +22,13 @@ def divided(x, y):
     return [one - other for one, other in zip(x, y)]
 
 
+def product_of_measures(measures):
+    product = no_measure()
+    for measure in measures:
+        product = multiplied(product, measure)
+    return product
+
+
 def raised_measure(measure, times):
     return [times * power for power in measure]
 

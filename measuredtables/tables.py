@@ -12,7 +12,17 @@ SCALE = 6
 TIMES = 7
 TURN = 8
 POWER = 9
-TEXTS_OF_CALLS = (1, 2, 2, 1, 1, 3, 3, 3, 2, 2)
+DET = 10
+INVERSE = 11
+REDUCE = 12
+KERNEL = 13
+SOLVE = 14
+POLY = 15
+SAME = 16
+DROP = 17
+TEXTS_OF_CALLS = (1, 2, 2, 1, 1, 3, 3, 3, 2, 2, 1, 2, 2, 2, 3, 1, 2, 1, 0)
+# enter, add, scale, times, turn, power, inverse, reduce, kernel and solve: those that hold a matrix under a new name
+MAKING_CALLS = (2, 5, 6, 7, 8, 9, 11, 12, 13, 14)
 SIGNS = "abcdefghijklmnopqrstuvwxyz0123456789_^-./[],; "
 OTHER_SIGN = "?"
 
@@ -47,17 +57,9 @@ class Reader:
         return texts
 
 
-def answer_of(desk, call, n, texts):
-    if call == BASE:
-        return desk.base(texts[0])
-    if call == UNIT:
-        return desk.unit(texts[0], texts[1])
+def answer_of_making(desk, call, n, texts):
     if call == ENTER:
         return desk.enter(texts[0], texts[1])
-    if call == SHOW:
-        return desk.show(texts[0])
-    if call == FORM:
-        return desk.form(texts[0])
     if call == ADD:
         return desk.add(texts[0], texts[1], texts[2])
     if call == SCALE:
@@ -66,13 +68,44 @@ def answer_of(desk, call, n, texts):
         return desk.times(texts[0], texts[1], texts[2])
     if call == TURN:
         return desk.turn(texts[0], texts[1])
+    if call == INVERSE:
+        return desk.inverse(texts[0], texts[1])
+    if call == REDUCE:
+        return desk.reduce(texts[0], texts[1])
+    if call == KERNEL:
+        return desk.kernel(texts[0], texts[1])
+    if call == SOLVE:
+        return desk.solve(texts[0], texts[1], texts[2])
     return desk.power(n, texts[0], texts[1])
+
+
+def answer_of_other(desk, call, texts):
+    if call == BASE:
+        return desk.base(texts[0])
+    if call == UNIT:
+        return desk.unit(texts[0], texts[1])
+    if call == SHOW:
+        return desk.show(texts[0])
+    if call == FORM:
+        return desk.form(texts[0])
+    if call == DET:
+        return desk.det(texts[0])
+    if call == POLY:
+        return desk.poly(texts[0])
+    if call == SAME:
+        return desk.same(texts[0], texts[1])
+    if call == DROP:
+        return desk.drop(texts[0])
+    return desk.names()
 
 
 def answer_next(desk, reader):
     call = reader.take_number()
     n = reader.take_number() if call == POWER else 0
-    return answer_of(desk, call, n, reader.take_texts(TEXTS_OF_CALLS[call]))
+    texts = reader.take_texts(TEXTS_OF_CALLS[call])
+    if call in MAKING_CALLS:
+        return answer_of_making(desk, call, n, texts)
+    return answer_of_other(desk, call, texts)
 
 
 def answers(calls):

@@ -2,6 +2,7 @@
 
 import re
 from fractions import Fraction
+from itertools import combinations
 
 WORD = "[a-z][a-z0-9_]{0,11}"
 FACTOR = f"(?:1|{WORD}(?:\\^-?[0-9]{{1,2}})?)"
@@ -61,6 +62,50 @@ def plus(x, y, times=1):
     return {base: power for base, power in total.items() if power != 0}
 
 
+def minus(x, y):
+    return plus(x, y, -1)
+
+
+def determinant(rows):
+    """By the first row, as the document tells it."""
+    total = Fraction(0 if rows else 1)
+    for j in range(len(rows)):
+        if rows[0][j] != 0:
+            total += (-1) ** j * rows[0][j] * determinant([row[:j] + row[j + 1:] for row in rows[1:]])
+    return total
+
+
+def without(rows, i, j):
+    return [row[:j] + row[j + 1:] for row in rows[:i] + rows[i + 1:]]
+
+
+def reduced(entries):
+    """The reduced form and its pivots, step by step as the document tells it."""
+    rows = [list(row) for row in entries]
+    pivots = []
+    for j in range(len(rows[0])):
+        found = [i for i in range(len(pivots), len(rows)) if rows[i][j] != 0]
+        if found:
+            k = len(pivots)
+            rows[k], rows[found[0]] = rows[found[0]], rows[k]
+            rows[k] = [entry / rows[k][j] for entry in rows[k]]
+            for i in range(len(rows)):
+                if i != k:
+                    rows[i] = [entry - rows[i][j] * other for entry, other in zip(rows[i], rows[k])]
+            pivots.append(j)
+    return rows, pivots
+
+
+def quotients(rows, columns):
+    return [[minus(row, column) for column in columns] for row in rows]
+
+
+def form_of(measures):
+    """The measures of rows and columns from those of the entries."""
+    rows = [row[0] for row in measures]
+    return rows, [minus(rows[0], measure) for measure in measures[0]]
+
+
 class Model:
     def __init__(self):
         self.book = {}
@@ -109,8 +154,7 @@ class Model:
 
     def hold(self, new, entries, measures):
         """measures: those of the entries, from which those of the rows and columns follow."""
-        rows = [row[0] for row in measures]
-        columns = [plus(rows[0], measure, -1) for measure in measures[0]]
+        rows, columns = form_of(measures)
         check(not any(far(entry, 200) for row in entries for entry in row), -7)
         check(all(abs(power) <= 999 for measure in rows + columns for power in measure.values()), -7)
         self.held[new] = (entries, measures)
@@ -155,8 +199,11 @@ class Model:
         powers = [(base, measure[base]) for base in self.bases if base in measure]
         return ".".join(base if power == 1 else f"{base}^{power}" for base, power in powers) or "1"
 
+    def shown_number(self, number, measure):
+        return str(number) + (f"[{self.shown_measure(measure)}]" if measure else "")
+
     def shown_entry(self, entry, measure):
-        return str(entry) + (f"[{self.shown_measure(measure)}]" if measure or entry == 0 else "")
+        return "0[1]" if entry == 0 and not measure else self.shown_number(entry, measure)
 
     def show(self, a):
         check(a in self.held, -8)
@@ -166,10 +213,7 @@ class Model:
 
     def form(self, a):
         check(a in self.held, -8)
-        measures = self.held[a][1]
-        rows = [row[0] for row in measures]
-        columns = [plus(rows[0], measure, -1) for measure in measures[0]]
-        return " by ".join(", ".join(map(self.shown_measure, side)) for side in [rows, columns])
+        return " by ".join(", ".join(map(self.shown_measure, side)) for side in form_of(self.held[a][1]))
 
     def add(self, new, a, b):
         self.naming(new, a, b)
@@ -218,3 +262,91 @@ class Model:
         for step in range(n - 1):
             result = self.product(result, once)
         return self.hold(new, *result)
+
+    def square(self, a):
+        entries, measures = self.held[a]
+        check(len(entries) == len(entries[0]), -13)
+        return entries, measures
+
+    def det(self, a):
+        check(a in self.held, -8)
+        entries, measures = self.square(a)
+        number = determinant(entries)
+        check(not far(number, 200), -7)
+        measure = {}
+        for i in range(len(entries)):
+            measure = plus(measure, measures[i][i])
+        return self.shown_number(number, measure)
+
+    def inverse(self, new, a):
+        self.naming(new, a)
+        entries, measures = self.square(a)
+        whole = determinant(entries)
+        check(whole != 0, -11)
+        places = range(len(entries))
+        parts = [[(-1) ** (i + j) * determinant(without(entries, j, i)) / whole for j in places] for i in places]
+        return self.hold(new, parts, [[minus({}, measures[j][i]) for j in places] for i in places])
+
+    def reduce(self, new, a):
+        self.naming(new, a)
+        entries, measures = self.held[a]
+        rows, pivots = reduced(entries)
+        columns = form_of(measures)[1]
+        row_measures = [columns[j] for j in pivots] + [{}] * (len(rows) - len(pivots))
+        self.hold(new, rows, quotients(row_measures, columns))
+        return 0, len(pivots)
+
+    def kernel(self, new, a):
+        self.naming(new, a)
+        entries, measures = self.held[a]
+        rows, pivots = reduced(entries)
+        columns = form_of(measures)[1]
+        free = [j for j in range(len(columns)) if j not in pivots]
+        if free:
+            parts = [[Fraction(int(i == j)) for j in free] for i in range(len(columns))]
+            for row, pivot in zip(rows, pivots):
+                parts[pivot] = [-row[j] for j in free]
+            self.hold(new, parts, quotients(columns, [columns[j] for j in free]))
+        return 0, len(free)
+
+    def solve(self, new, a, b):
+        self.naming(new, a, b)
+        (x, p), (y, q) = self.held[a], self.held[b]
+        check(len(x) == len(y), -9)
+        (a_rows, a_columns), (b_rows, b_columns) = form_of(p), form_of(q)
+        links = [minus(other, one) for one, other in zip(a_rows, b_rows)]
+        check(all(link == links[0] for link in links), -10)
+        pivots = reduced(x)[1]
+        rows, all_pivots = reduced([one + other for one, other in zip(x, y)])
+        if len(all_pivots) > len(pivots):
+            return 1, 0
+        parts = [[Fraction(0)] * len(y[0]) for column in a_columns]
+        for row, pivot in zip(rows, pivots):
+            parts[pivot] = row[len(a_columns):]
+        self.hold(new, parts, quotients([plus(column, links[0]) for column in a_columns], b_columns))
+        return 0, len(a_columns) - len(pivots)
+
+    def poly(self, a):
+        check(a in self.held, -8)
+        entries, measures = self.square(a)
+        check(all(measures[i][i] == measures[0][0] for i in range(len(entries))), -10)
+        shown, measure = [], {}
+        for k in range(len(entries) + 1):
+            chosen = combinations(range(len(entries)), k)
+            number = (-1) ** k * sum(determinant([[entries[i][j] for j in places] for i in places]) for places in chosen)
+            check(not far(number, 200), -7)
+            shown.append(self.shown_number(number, measure))
+            measure = plus(measure, measures[0][0])
+        return ", ".join(shown)
+
+    def same(self, a, b):
+        check(a in self.held and b in self.held, -8)
+        return int(self.held[a] == self.held[b])
+
+    def drop(self, a):
+        check(a in self.held, -8)
+        del self.held[a]
+        return 0
+
+    def all(self):
+        return " ".join(self.held)

@@ -106,6 +106,14 @@ class Language(unittest.TestCase):
                     if isinstance(op, (ast.Is, ast.IsNot)):
                         self.assertIn(getattr(right, "value", 0), (None, True, False), (name, node.lineno))
 
+    def test_values_at_top(self):
+        plain = (ast.Constant, ast.Tuple, ast.List, ast.Dict, ast.UnaryOp, ast.USub, ast.Load)
+        for name, tree in self.trees.items():
+            for node in tree.body:
+                self.assertIsInstance(node, (ast.Expr, ast.ImportFrom, ast.Assign, ast.FunctionDef, ast.ClassDef), name)
+                if isinstance(node, ast.Assign):
+                    self.assertTrue(all(isinstance(sub, plain) for sub in ast.walk(node.value)), (name, node.lineno))
+
     def test_functions(self):
         for name, tree in self.trees.items():
             for function in walk(tree, ast.FunctionDef):

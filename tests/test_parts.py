@@ -3,8 +3,10 @@
 import unittest
 from math import gcd
 
+from measuredtables.elimination import determinant, reduced_form
 from measuredtables.matrices import Matrix, settled
 from measuredtables.ratios import common_divisor, lowest
+from measuredtables.wholes import row_over
 
 
 def measure(power):
@@ -54,6 +56,26 @@ class Lowest(unittest.TestCase):
     def test_large_by_small(self):
         self.assertEqual(common_divisor(3 ** 2000, 3 ** 400, 200), 3 ** 400)
         self.assertEqual(common_divisor(7 ** 2000 * 6, 3 ** 400, 200), 3)
+
+
+class Denominators(unittest.TestCase):
+    def test_above_zero(self):
+        self.assertEqual(row_over([1, -2, 0], 3), [(1, 3), (-2, 3), (0, 3)])
+        self.assertEqual(row_over([1, -2, 0], -3), [(-1, 3), (2, 3), (0, 3)])
+
+    def test_above_zero_in_reduced_forms(self):
+        reduced = reduced_form([[(0, 1), (2, 3), (1, 1)], [(5, 1), (1, 7), (0, 1)]])
+        self.assertTrue(all(bottom > 0 for row in reduced.entries for top, bottom in row))
+
+
+class Determinant(unittest.TestCase):
+    def test_no_rows(self):
+        self.assertEqual(determinant([]), 1)
+
+    def test_rows_are_not_changed(self):
+        rows = [[0, 2, 1], [3, 4, 0], [5, 6, 7]]
+        self.assertEqual(determinant(rows), -44)
+        self.assertEqual(rows, [[0, 2, 1], [3, 4, 0], [5, 6, 7]])
 
 
 if __name__ == "__main__":
